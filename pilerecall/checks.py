@@ -118,14 +118,15 @@ def is_surface(machine, text, value):
     state, place, top = value
     if not (is_state(machine.states, state) and is_between(place, 0, len(text) + 1)):
         return False
-    return isinstance(top, str) and (top == "" or machine.has_symbol(top))
+    return isinstance(top, str) and (top == "" or top in machine.symbols)
 
 
 def is_stack(machine, value):
     """Whether a value is a stack that may be passed."""
     if not is_sequence(value) or len(value) > MOST_STACK:
         return False
-    return all([isinstance(symbol, str) and machine.has_symbol(symbol) for symbol in value])
+    known = {symbol: True for symbol in machine.symbols}
+    return all([isinstance(symbol, str) and symbol in known for symbol in value])
 
 
 def is_standing(machine, text, value):

@@ -55,17 +55,12 @@ class Machine:
         self.rules = tuple(sorted({tuple(rule) for rule in rules}))
         self.yes = tuple(sorted(set(yes)))
         self.symbols = symbols_of(self.rules)
-        self._symbols = {symbol: True for symbol in self.symbols}
         self._acts = acts_by_key(self.rules)
         self.guess = first_guess(self._acts)
 
     def acts(self, state, sign, top):
         """The acts of all rules with this key, in ascending order."""
         return self._acts.get((state, sign, top), ())
-
-    def has_symbol(self, symbol):
-        """Whether a string is one of the machine's symbols."""
-        return symbol in self._symbols
 
     def __eq__(self, other):
         return (

@@ -142,3 +142,20 @@ def all_surfaces(machine, text):
         for place in range(len(text) + 2)
         for top in ("",) + machine.symbols
     ]
+
+
+def long_cases(seed, number):
+    """Yields drawn machines like twice, with one to four other rules, whose runs are rather long."""
+    rng = random.Random(seed)
+    for _ in range(number):
+        rules = {rule[:3]: rule for rule in twice().rules}
+        for _ in range(rng.randint(1, 4)):
+            key = (rng.randrange(4), rng.choice("<>aa"), rng.choice(["", "x", "y", "y"]))
+            rules[key] = random_rule(rng, "a", 4, ["", "x", "y"], key)
+        if rng.random() < 0.5:
+            # What stopped goes back to the beginning, and may leave something on the stack.
+            deed, symbol = rng.choice([("keep", ""), ("push", "x")])
+            rules[(3, "<", "")] = (3, "<", "", 0, 0, deed, symbol, "r")
+            deed, symbol = rng.choice([("keep", ""), ("push", "y")])
+            rules[(0, "<", "x")] = (0, "<", "x", 0, 1, deed, symbol, "")
+        yield Machine("a", 4, list(rules.values()), [3]), "a" * rng.randint(0, 5)

@@ -127,10 +127,15 @@ class ErrorsTest(unittest.TestCase):
     def test_states_come_before_rules(self):
         rules = [(state, "a", "", 0, 0, "keep", "", "") for state in range(1200)]
         rules += [(state, ">", "", 0, 0, "keep", "", "") for state in range(1200)]
-        rules += [(state, "<", str(top), 0, 0, "keep", "", "") for state in range(1200) for top in range(9)]
+        rules += [(state, "<", str(top), 0, 0, "pop", "", "") for state in range(1200) for top in range(9)]
         many = Machine("a", 1200, rules)
+        fewer = Machine("a", 799, [rule for rule in rules if rule[0] < 799])
+        fewest = Machine("a", 798, [rule for rule in rules if rule[0] < 798])
         for function in self.both():
             self.assertEqual(self.where(function, many, many), "states")
+            self.assertEqual(self.where(function, many, fewer), "states")
+            self.assertEqual(self.where(function, fewer, many), "states")
+            self.assertEqual(self.where(function, many, fewest), "rules")
 
     def test_the_number_of_rules(self):
         # Beside those of the second machine there are 9 rules: 1 of the first one, 2 into A, 6 of A and A + 1.
@@ -144,6 +149,17 @@ class ErrorsTest(unittest.TestCase):
                     self.assertEqual(function(~machine, second).states, 2000)
                 else:
                     self.assertEqual(self.where(function, machine, second), "rules")
+
+    def test_the_number_of_rules_of_drawn_machines(self):
+        keys = [(state, sign, top) for state in range(1980) for sign in "<>ab" for top in ("", "x", "y")]
+        rules = [key + (0, 0, "keep", "", "") for key in keys]
+        for first, _ in cases(34, 5, many=2, most_states=8):
+            no = [state for state in range(first.states) if state not in first.yes]
+            for function, leaving in zip(self.both(), (first.yes, no)):
+                own = len(set(joined_rules(first, Machine("ab", 1, []), leaving)))
+                fitting = Machine("ab", 1980, rules[:20000 - own])
+                self.assertEqual(len(function(first, fitting).rules), 20000)
+                self.assertEqual(self.where(function, first, Machine("ab", 1980, rules[:20001 - own])), "rules")
 
     def test_rules_that_would_be_a_billion(self):
         rules = [(0, "a", "", 0, 0, "push", "S" + str(k), "") for k in range(20000)]
