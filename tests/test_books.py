@@ -63,7 +63,8 @@ class EntriesTest(unittest.TestCase):
     def test_endless_entries(self):
         # The head goes to the right end, leaves a symbol, and then moves between the last two places.
         rules = [(0, sign, "", 0, 1, "keep", "", "k") for sign in "<a"] + [
-            (0, ">", "", 1, 0, "push", "x", ""), (1, ">", "x", 2, -1, "keep", "", ""), (2, "a", "x", 1, 1, "keep", "", "")]
+            (0, ">", "", 1, 0, "push", "x", ""), (1, ">", "x", 2, -1, "keep", "", ""),
+            (2, "a", "x", 1, 1, "keep", "", "")]
         book = Book(Machine("a", 3, rules), "aaaa")
         self.assertEqual(book.ask(), ("endless",))
         self.assertEqual(book.closing, (1, 5, "x"))

@@ -130,7 +130,7 @@ class FirstAtTest(unittest.TestCase):
     def test_places_that_are_reached_late(self):
         # twice up to a letter b; only when its run is done does the head go on behind this letter.
         rules = [(rule[0], rule[1].replace(">", "b")) + rule[2:] for rule in twice().rules]
-        rules += [(3, "a", "", 4, 1, "keep", "", ""), (4, "a", "", 4, 1, "keep", "", ""), (4, "b", "", 4, 1, "keep", "", "")]
+        rules += [(3, "a", "", 4, 1, "keep", "", "")] + [(4, sign, "", 4, 1, "keep", "", "") for sign in "ab"]
         machine = Machine("ab", 5, rules)
         for n in (1, 2, 6, 100, 398):
             book = Book(machine, "a" * n + "ba")

@@ -36,7 +36,8 @@ class RulesTest(unittest.TestCase):
     def test_the_other_yes_states(self):
         for machine, _ in cases(31, 20, many=2):
             other = ~machine
-            self.assertEqual((other.letters, other.states, other.rules), (machine.letters, machine.states, machine.rules))
+            self.assertEqual((other.letters, other.states), (machine.letters, machine.states))
+            self.assertEqual(other.rules, machine.rules)
             self.assertEqual(sorted(other.yes + machine.yes), list(range(machine.states)))
             self.assertEqual(~other, machine)
 

@@ -16,7 +16,8 @@ def growing():
     """Goes to the right end, and then for ever puts x and y on an old stack of z."""
     return Machine("a", 3, [
         (0, "<", "", 0, 1, "keep", "", "bb"), (0, "a", "", 0, 1, "push", "z", ""), (0, "a", "z", 0, 1, "push", "z", ""),
-        (0, ">", "", 1, 0, "push", "x", ""), (0, ">", "z", 1, 0, "push", "x", ""), (1, ">", "x", 2, 0, "push", "y", "c"),
+        (0, ">", "", 1, 0, "push", "x", ""), (0, ">", "z", 1, 0, "push", "x", ""),
+        (1, ">", "x", 2, 0, "push", "y", "c"),
         (2, ">", "y", 1, 0, "push", "x", "de")])
 
 
