@@ -26,7 +26,7 @@ class Book:
         asked = tuple(surface)
         run = KeptRun(self.machine, self.text, self._entries)
         run.run_from(asked)
-        self._order.extend(run.worked)
+        self._order.extend(list(run.worked))
         self.worked = tuple(run.worked)
         self.recalled = tuple(run.recalled)
         self.closing = run.closing

@@ -31,6 +31,17 @@ def sources():
         yield path.stem, text, ast.parse(text)
 
 
+def is_new_list(node):
+    """Whether an expression plainly makes a new list: a literal, a comprehension, a slice, list(..) or so many times one."""
+    if isinstance(node, ast.BinOp):
+        return is_new_list(node.left)
+    if isinstance(node, ast.Subscript):
+        return isinstance(node.slice, ast.Slice)
+    if isinstance(node, ast.Call):
+        return isinstance(node.func, ast.Name) and node.func.id == "list"
+    return isinstance(node, (ast.List, ast.ListComp))
+
+
 class FilesTest(unittest.TestCase):
     def test_the_folder_contains_nothing_else(self):
         others = [path.name for path in FOLDER.iterdir() if path.suffix != ".py" and path.name != "__pycache__"]
@@ -116,6 +127,13 @@ class WordsTest(unittest.TestCase):
                         self.assertIn(node.func.attr, METHODS | own)
                     else:
                         self.assertIn(node.func.id, BUILTINS | own)
+
+    def test_what_is_walked_to_change_a_list_is_a_new_list(self):
+        for name, _, tree in sources():
+            for node in ast.walk(tree):
+                if isinstance(node, ast.Call) and getattr(node.func, "attr", None) in ("extend", "update"):
+                    with self.subTest(name, line=node.lineno):
+                        self.assertTrue(is_new_list(node.args[0]))
 
     def test_methods_with_double_underscores(self):
         for name, _, tree in sources():
