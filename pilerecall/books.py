@@ -47,6 +47,12 @@ class Book:
             self.ask(surface)
         return self.entry(surface)
 
+    def fill(self, right):
+        """Adds entries that are known to be right and are not yet there, as pairs (surface, entry)."""
+        for surface, entry in right:
+            self._entries[surface] = entry
+            self._order.append(surface)
+
     def act(self, surface):
         """The act at a surface that needs no check, or None."""
         return act_of(self.machine, self._signs, surface)

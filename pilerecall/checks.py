@@ -32,6 +32,11 @@ def is_row(value, length):
     return is_sequence(value) and len(value) == length
 
 
+def is_worded(value):
+    """Whether a value is a list or a tuple whose first part is a string."""
+    return is_sequence(value) and len(value) > 0 and isinstance(value[0], str)
+
+
 def are_letters(value, most):
     """Whether a value is a string of at most so many letters from a to z."""
     if not isinstance(value, str) or len(value) > most:

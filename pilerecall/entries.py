@@ -51,3 +51,11 @@ def over_entry(surface, act, pushed, later):
     if end == ENDLESS:
         return endless_entry(low, high)
     return (end, 1 + pushed[1] + steps, max(rise, pushed[2] + 1), low, high, len(act[4]) + pushed[5] + letters)
+
+
+def moved_entry(entry, by):
+    """The entry of a run whose places all lie so much further to the right."""
+    end, steps, rise, low, high, letters = entry
+    if end != ENDLESS:
+        end = end[:2] + (end[2] + by,) + end[3:]
+    return (end, steps, rise, low + by, high + by, letters)

@@ -16,11 +16,11 @@ METHODS = set(
     " items join keys ljust lower lstrip partition pop remove replace reverse rfind rjust rpartition rsplit rstrip"
     " setdefault split splitlines startswith strip update upper values zfill bit_length".split()
 )
-DOUBLES = set("__init__ __eq__ __len__ __iter__ __contains__ __invert__ __and__ __or__".split())
+DOUBLES = set("__init__ __eq__ __len__ __iter__ __contains__ __invert__ __and__ __or__ __enter__ __exit__".split())
 BARRED_WORDS = set("open input law register elements mro type eval exec compile id vars dir help exit quit".split())
 BARRED_NODES = (
     ast.AsyncFunctionDef, ast.Await, ast.GeneratorExp, ast.Global, ast.Import, ast.Lambda, ast.Set, ast.AnnAssign,
-    ast.Try, ast.With, ast.Match, ast.NamedExpr, ast.YieldFrom, ast.Div, ast.Starred,
+    ast.Try, ast.Match, ast.NamedExpr, ast.YieldFrom, ast.Div, ast.Starred,
 )
 
 
