@@ -110,6 +110,7 @@ class BadTreeTest(unittest.TestCase):
         wrong += [("say", letter) for letter in ODD + ["A", "ab", "1", "<", "none", "\u00e4", ["a"]]]
         wrong += [("call", name) for name in ODD + RESERVED + ["Main", "abcdefghijklm"]]
         wrong += [("call", "main", ()), ("halt", "here"), ("halt", ""), ("halt", None), ("halt", True), ("halt", "yes", "no")]
+        wrong += [("stop", "yes"), ("give", "no"), ("", "yes"), ("left", "no"), ("if", "yes")]
         wrong += [("if",), ("if", ("same",)), ("if", ("same",), ()), ("if", ("same",), (), (), ()), ("while", ("same",))]
         wrong += [("while", ("same",), (), ()), ("either",), ("either", ()), ("either", (), (), ()), ("either", ("same",), ())]
         wrong += [(("left",),), ("not", ("same",)), ("at", "a"), ("same",), ("test",)]
@@ -132,6 +133,7 @@ class BadTreeTest(unittest.TestCase):
         wrong += [("at", sign) for sign in ODD + ["A", "ab", "<>", "none", "here", "\u00e4"]]
         wrong += [("top", mark) for mark in ODD if mark != ""] + [("top", mark) for mark in ("ab", "1", "none", "here", "<")]
         wrong += [("not",), ("not", same, same), ("not", "same"), ("not", ()), ("and",), ("and", same), ("and", same, same, same)]
+        wrong += [("maybe", same), ("and", ("maybe", same), same), ("or", same, ("left", same)), ("or", ("", same), same)]
         wrong += [("or",), ("or", same), ("or", same, same, same), ("xor", same, same), ("left",), ("push", "a")]
         wrong += [("call",), ("call", "main", "main"), ("call", "end"), ("call", ""), ("call", None), ("call", ["main"])]
         # A test is a condition without a call.
@@ -175,6 +177,11 @@ class BoundsTest(unittest.TestCase):
             self.assertEqual(fault(asking(deep_condition(3000, word=word))), 0)
             self.assertIsNone(fault(main(("if", deep_condition(8, word=word), simple(1), simple(1)))))
             self.assertEqual(fault(main(("if", deep_condition(9, word=word), simple(1), simple(1)))), 0)
+            # Within an and, too, each not is one level more.
+            self.assertIsNone(fault(asking(("and", deep_condition(7, word=word), deep_condition(7, word=word)))))
+            for tree in (("and", deep_condition(8, word=word), ("same",)), ("or", ("same",), deep_condition(8, word=word))):
+                self.assertEqual(fault(asking(tree)), 0)
+                self.assertEqual(fault(asking(tree[:1] + tree[:0:-1])), 0)
         self.assertIsNone(fault(asking(deep_condition(8, ("call", "main")))))
         self.assertEqual(fault(asking(deep_condition(9, ("call", "main")))), 0)
         left = ("same",)
