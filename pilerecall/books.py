@@ -47,11 +47,10 @@ class Book:
             self.ask(surface)
         return self.entry(surface)
 
-    def fill(self, right):
-        """Adds entries that are known to be right and are not yet there, as pairs (surface, entry)."""
-        for surface, entry in right:
-            self._entries[surface] = entry
-            self._order.append(surface)
+    def refill(self, right):
+        """Has just these entries from now on, as pairs (surface, entry) that are known to be right."""
+        self._entries = {pair[0]: pair[1] for pair in right}
+        self._order = [pair[0] for pair in right]
 
     def act(self, surface):
         """The act at a surface that needs no check, or None."""

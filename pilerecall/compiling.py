@@ -33,11 +33,9 @@ class Compiler:
         self.callers = [number for number in range(len(self.nodes)) if self.nodes[number][0] == "call"]
         self.tops = [""] + list(self.data) + [str(number) for number in self.callers]
 
-    def rule_count(self):
-        """The number of rules, worked out without making them."""
-        forks = [node for node in self.nodes if node[0] == "guess" and node[1] != node[2]]
-        acts = (len(self.nodes) + len(forks)) * len(self.tops) + 2 * (len(self.tops) - 1)
-        return acts * len(self.signs)
+    def key_count(self):
+        """The number of keys for which the nodes have rules."""
+        return len(self.nodes) * len(self.signs) * len(self.tops)
 
     def node_acts(self, number, sign, top):
         """The acts of a node."""
@@ -46,7 +44,6 @@ class Compiler:
         if word == "call":
             return [(node[1], 0, "push", str(number), "")]
         if word == "guess":
-            # Two equal rules would be counted twice.
             afters = node[1:2] if node[1] == node[2] else node[1:]
             return [keeping(after) for after in afters]
         if word == "give":
@@ -91,8 +88,9 @@ def compiled(program, letters):
     if not is_alphabet(letters):
         raise BadMachine("letters")
     compiler = Compiler(program, letters)
-    # The rules are counted before they are made: there could be some millions of them.
-    if compiler.rule_count() > MOST_RULES:
+    # There could be some millions of rules, which are better not made. The machine itself
+    # refuses what is beyond the bound by less: no rule is made twice.
+    if compiler.key_count() > MOST_RULES:
         raise BadMachine("rules")
     states = len(compiler.nodes)
     rules = compiler.node_rules() + compiler.giving_rules(states, 2) + compiler.giving_rules(states + 1, 3)

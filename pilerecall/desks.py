@@ -55,7 +55,7 @@ class Desk:
             raise BadSplice(place, removed, letters)
         text = spliced_text(self.text, place, removed, letters)
         book = Book(self.machine, text)
-        book.fill(untouched(self.book, place, removed, len(letters) - removed))
+        book.refill(untouched(self.book, place, removed, len(letters) - removed))
         self.past.append((self.text, self.book))
         self.text = text
         self.book = book

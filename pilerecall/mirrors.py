@@ -1,7 +1,5 @@
 """Machines that read the text from its end."""
 
-from pilerecall.checks import MOST_RULES, MOST_STATES
-from pilerecall.errors import BadMachine
 from pilerecall.machines import Machine
 from pilerecall.surfaces import signs_of
 
@@ -17,11 +15,8 @@ def mirrored_rule(rule):
 def mirrored(machine):
     """The machine that does on each text what the machine does on the reversed text."""
     signs = signs_of(machine.letters)
-    if machine.states + 1 > MOST_STATES:
-        raise BadMachine("states")
-    if len(machine.rules) + len(signs) > MOST_RULES:
-        raise BadMachine("rules")
     rules = [mirrored_rule(rule) for rule in machine.rules]
     rules.extend([(0, sign, "", 0, 1, "keep", "", "") for sign in signs[:-1]])
     rules.append((0, ">", "", 1, 0, "keep", "", ""))
+    # No two of these rules are equal, so the new machine itself refuses too many states or rules.
     return Machine(machine.letters, machine.states + 1, rules, [state + 1 for state in machine.yes])
