@@ -62,10 +62,11 @@ def draw_deeds(rng, desk, splices, levels):
 
 WRONG = [
     None, 7, True, "", "answer", "undo", b"work", 1.5, object(), {}, {"answer": 1}, (), [], ((),), (None,), (1,), (True,),
-    ("answer", None), ("answer", ()), ["undo", 1], ("work", 1), ("work",) * 2, ("Answer",), ("ANSWER",), ("",), ("splice",),
-    ("splice", 1), ("splice", 1, 0), ("splice", 1, 0, "a", "b"), ("splice", (1, 0, "a")), ("redo",), (("answer",),),
-    (["answer"],), ("try",), ("try", None), ("try", "answer"), ("try", ""), ("try", 3), ("try", {}), ("try", ("answer",)),
-    ("try", (), ()), ("try", [("answer",), None]), ("try", [("answer",), ("try", [("undo",), ("try", 0)])]), (b"answer",),
+    ("answer", None), ("answer", ()), ["undo", 1], ("work", 1), ("work",) * 2, ("Answer",), ("ANSWER",), ("",),
+    ("splice",), ("splice", 1), ("splice", 1, 0), ("splice", 1, 0, "a", "b"), ("splice", (1, 0, "a")), ("redo",),
+    (("answer",),), (["answer"],), (b"answer",),
+    ("try",), ("try", None), ("try", "answer"), ("try", ""), ("try", 3), ("try", {}), ("try", ("answer",)), ("try", (), ()),
+    ("try", [("answer",), None]), ("try", [("answer",), ("try", [("undo",), ("try", 0)])]),
     ("try", [("try", [("answer",)]), ("splice", 1)]), trial_deep(10, (None,)), trial_deep(3, ("undo",)),
     trial_deep(11), trial_deep(12), trial_deep(40), trial_deep(11, ()), trial_deep(2000, ()),
 ]

@@ -6,8 +6,10 @@ import unittest
 from pilerecall.books import Book, answer
 from pilerecall.desks import Desk, Trial
 from pilerecall.errors import BadSplice, BadText, Guesses, NothingToUndo, RecallError
+from pilerecall.loops import loop
 from pilerecall.machines import Machine
-from pilerecall.rows import row_fault, rows
+from pilerecall.profiles import counts, uses
+from pilerecall.rows import paper, row_fault, rows
 from tests.helpers import all_surfaces, cases, guessing, pairs, random_text, twice
 from tests.naive import NaiveRun, Undecided
 from tests.test_standings import WRONG_TEXTS
@@ -189,6 +191,8 @@ class SpliceTest(unittest.TestCase):
         else:
             self.assertEqual(book.worked, ())
         self.assertEqual(list(book), kept + list(book.worked))
+        for function in (loop, counts, uses, paper):
+            self.assertEqual(function(book), function(empty))
 
     def test_a_long_text(self):
         n = 300
@@ -212,7 +216,8 @@ class BadSpliceTest(unittest.TestCase):
         wrong = [(place, 0, "a") for place in odd + [0, -1, 6, 10 ** 30]]
         wrong += [(2, removed, "a") for removed in odd + [-1, 4, 10 ** 30]]
         wrong += [(1, 5, ""), (5, 1, ""), (4, 2, "a")]
-        wrong += [(1, 0, letters) for letters in odd[:4] + odd[5:] + ["c", "A", "a b", "ab\n", "<", ["a"], ("a",), b"a"]]
+        strings = ["c", "A", "a b", "ab\n", "<", ["a"], ("a",), b"a"]
+        wrong += [(1, 0, letters) for letters in odd + strings]
         wrong += [(1, 0, "a" * 397), (5, 4, "a" * 401), (1, 4, "a" * 401), (1, 3, "a" * 400)]
         for place, removed, letters in wrong:
             with self.subTest(place=place, removed=removed), self.assertRaises(BadSplice) as caught:

@@ -32,7 +32,7 @@ def sources():
 
 
 def is_new_list(node):
-    """Whether an expression plainly makes a new list: a literal, a comprehension, a slice, list(..) or so many times one."""
+    """Whether an expression plainly makes a new list: a literal, a comprehension, a slice, list(..), many times one."""
     if isinstance(node, ast.BinOp):
         return is_new_list(node.left)
     if isinstance(node, ast.Subscript):
