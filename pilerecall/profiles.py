@@ -36,8 +36,9 @@ def numbers_of(book, lasted):
     # A run that falls is longer than those that it leans on, so its number is complete before
     # it is handed on to them.
     for surface in longest_first(book, fallen):
+        number = numbers[surface]
         for leaned in leaned_on(book, surface):
-            numbers[leaned] += numbers[surface]
+            numbers[leaned] = numbers[leaned] + number
     return numbers
 
 

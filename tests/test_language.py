@@ -42,6 +42,25 @@ def is_new_list(node):
     return isinstance(node, (ast.List, ast.ListComp))
 
 
+def root_of(node):
+    """The name in front of all items and attributes of a target."""
+    while isinstance(node, (ast.Subscript, ast.Attribute)):
+        node = node.value
+    return node.id
+
+
+def names_in(node):
+    """All names that an expression reads."""
+    return {part.id for part in ast.walk(node) if isinstance(part, ast.Name)}
+
+
+def is_plain_number(node):
+    """Whether an expression plainly is a number that nothing can be walked by: a literal, or len(..)."""
+    if isinstance(node, ast.Call):
+        return isinstance(node.func, ast.Name) and node.func.id == "len"
+    return isinstance(node, ast.Constant) and isinstance(node.value, int)
+
+
 class FilesTest(unittest.TestCase):
     def test_the_folder_contains_nothing_else(self):
         others = [path.name for path in FOLDER.iterdir() if path.suffix != ".py" and path.name != "__pycache__"]
@@ -134,6 +153,13 @@ class WordsTest(unittest.TestCase):
                 if isinstance(node, ast.Call) and getattr(node.func, "attr", None) in ("extend", "update"):
                     with self.subTest(name, line=node.lineno):
                         self.assertTrue(is_new_list(node.args[0]))
+
+    def test_what_is_added_in_place_is_not_what_changes(self):
+        for name, _, tree in sources():
+            for node in ast.walk(tree):
+                if isinstance(node, ast.AugAssign) and isinstance(node.op, (ast.Add, ast.BitOr)):
+                    with self.subTest(name, line=node.lineno):
+                        self.assertTrue(is_plain_number(node.value) or root_of(node.target) not in names_in(node.value))
 
     def test_methods_with_double_underscores(self):
         for name, _, tree in sources():
