@@ -22,6 +22,11 @@ def is_between(value, least, most):
     return is_integer(value) and least <= value <= most
 
 
+def is_count(value):
+    """Whether a value is an integer that is not below 0."""
+    return is_integer(value) and value >= 0
+
+
 def is_sequence(value):
     """Whether a value is a list or a tuple."""
     return isinstance(value, (list, tuple))
@@ -42,6 +47,11 @@ def are_letters(value, most):
     if not isinstance(value, str) or len(value) > most:
         return False
     return all(["a" <= letter <= "z" for letter in value])
+
+
+def is_letter(value):
+    """Whether a value is one letter from a to z."""
+    return are_letters(value, 1) and value != ""
 
 
 def is_alphabet(value):

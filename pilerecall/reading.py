@@ -1,8 +1,9 @@
 """Programs read from their texts, token by token."""
 
+from pilerecall.checks import is_letter
 from pilerecall.errors import BadToken
 from pilerecall.programs import Program
-from pilerecall.trees import BARE, MOST_NESTED, is_end_sign, is_here, is_letter, is_mark, is_name
+from pilerecall.trees import BARE, MOST_NESTED, is_end_sign, is_here, is_mark, is_name
 
 MOST_CHARACTERS = 20000
 MOST_OPEN = 8

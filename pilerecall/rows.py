@@ -1,6 +1,6 @@
 """Rows: entries with their surfaces in front, which anybody can judge one by one."""
 
-from pilerecall.checks import check_plain, is_between, is_integer, is_row, is_state, is_surface, is_worded
+from pilerecall.checks import check_plain, is_between, is_count, is_row, is_state, is_surface, is_worded
 from pilerecall.entries import ENDLESS, along_entry, falls, over_entry, pop_entry, stop_entry
 from pilerecall.leaning import leaned_in_all
 from pilerecall.surfaces import START_SURFACE, act_of, back_to, led_to, signs_of
@@ -25,7 +25,7 @@ def paper(book, surface=START_SURFACE):
 
 def are_counts(values):
     """Whether all values are integers that are not below 0."""
-    return all([is_integer(value) and value >= 0 for value in values])
+    return all([is_count(value) for value in values])
 
 
 def is_landing(machine, text, value):

@@ -8,10 +8,15 @@ def signs_of(text):
     return "<" + text + ">"
 
 
+def acts_of(machine, signs, surface):
+    """The acts of a machine at a surface, in ascending order."""
+    state, place, top = surface
+    return machine.acts(state, signs[place], top)
+
+
 def act_of(machine, signs, surface):
     """The act of a plain machine at a surface, or None."""
-    state, place, top = surface
-    acts = machine.acts(state, signs[place], top)
+    acts = acts_of(machine, signs, surface)
     return acts[0] if acts else None
 
 
@@ -24,3 +29,8 @@ def led_to(surface, act):
 def back_to(surface, end):
     """The surface after a push at this surface, when what was pushed has fallen with this end."""
     return (end[1], end[2], surface[2])
+
+
+def landing_of(surface, act):
+    """The state and the place in which an act that pops lands."""
+    return (act[0], surface[1] + act[1])

@@ -4,7 +4,7 @@ The judges take any values. A tree that is too deep, or a block with too many st
 left at once, so that no judge goes deeper than the bounds allow.
 """
 
-from pilerecall.checks import are_letters, is_row, is_sequence, is_worded
+from pilerecall.checks import are_letters, is_letter, is_row, is_sequence, is_worded
 
 RESERVED = (
     "to", "end", "left", "right", "pop", "yes", "no", "push", "here", "say", "call", "if", "then", "else", "while",
@@ -20,11 +20,6 @@ MOST_PROCEDURES = 40
 def is_name(value):
     """Whether a value is a name of a procedure."""
     return are_letters(value, MOST_NAME) and value != "" and value not in RESERVED
-
-
-def is_letter(value):
-    """Whether a value is one letter from a to z."""
-    return are_letters(value, 1) and value != ""
 
 
 def is_mark(value):

@@ -11,6 +11,8 @@ BUILTINS = set(
     "len range enumerate zip min max sum abs sorted reversed int str bool list tuple dict set isinstance ord repr any"
     " all divmod iter ValueError TypeError KeyError IndexError NotImplemented".split()
 )
+# What may be imported from outside.
+LIBRARY = {"heapq": ("heappop", "heappush")}
 METHODS = set(
     "append clear copy count endswith extend find get index insert isalnum isalpha isdigit islower isspace isupper"
     " items join keys ljust lower lstrip partition pop remove replace reverse rfind rjust rpartition rsplit rstrip"
@@ -99,7 +101,7 @@ class ImportsTest(unittest.TestCase):
                 if isinstance(node, ast.ImportFrom):
                     for alias in node.names:
                         with self.subTest(name, imported=alias.name):
-                            self.assertIn(alias.name, defined[node.module])
+                            self.assertIn(alias.name, LIBRARY.get(node.module) or defined[node.module])
                             self.assertIsNone(alias.asname)
 
     def test_no_circle(self):
@@ -137,7 +139,11 @@ class WordsTest(unittest.TestCase):
     def test_calls(self):
         own = {node.name for _, _, tree in sources() for node in ast.walk(tree)
                if isinstance(node, (ast.FunctionDef, ast.ClassDef))}
+        own |= {word for words in LIBRARY.values() for word in words}
         for name, _, tree in sources():
+            # A function from a table is called by a name that is assigned it.
+            tabled = {node.targets[0].id for node in ast.walk(tree) if isinstance(node, ast.Assign)
+                      and isinstance(node.value, ast.Subscript) and getattr(node.value.value, "id", "").isupper()}
             for node in ast.walk(tree):
                 if not isinstance(node, ast.Call):
                     continue
@@ -145,7 +151,7 @@ class WordsTest(unittest.TestCase):
                     if isinstance(node.func, ast.Attribute):
                         self.assertIn(node.func.attr, METHODS | own)
                     else:
-                        self.assertIn(node.func.id, BUILTINS | own)
+                        self.assertIn(node.func.id, BUILTINS | own | tabled)
 
     def test_what_is_walked_to_change_a_list_is_a_new_list(self):
         for name, _, tree in sources():

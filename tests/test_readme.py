@@ -9,11 +9,13 @@ README = pathlib.Path(__file__).resolve().parent.parent / "README.md"
 
 
 def literal(comment):
-    """The value that a comment tells, as a list of none or one."""
-    try:
-        return [ast.literal_eval(comment.split(": ")[0] if comment.startswith("None:") else comment)]
-    except (SyntaxError, ValueError):
-        return []
+    """The value that a comment tells, perhaps with words behind a colon, as a list of none or one."""
+    for told in (comment, comment.split(": ")[0]):
+        try:
+            return [ast.literal_eval(told)]
+        except (SyntaxError, ValueError):
+            pass
+    return []
 
 
 class ExamplesTest(unittest.TestCase):
@@ -32,7 +34,7 @@ class ExamplesTest(unittest.TestCase):
                 for told in literal(behind[0]) if behind else []:
                     self.assertEqual(value, told, code)
                     checked += 1
-        self.assertGreaterEqual(checked, 8)
+        self.assertGreaterEqual(checked, 25)
 
 
 if __name__ == "__main__":
