@@ -34,7 +34,7 @@ class ExamplesTest(unittest.TestCase):
                 for told in literal(behind[0]) if behind else []:
                     self.assertEqual(value, told, code)
                     checked += 1
-        self.assertGreaterEqual(checked, 25)
+        self.assertGreaterEqual(checked, 35)
 
 
 if __name__ == "__main__":
