@@ -35,7 +35,7 @@ class Derivations:
         self.empties = empty_sizes(grammar)
         self.words = words_of(grammar)
         self.wholes = self.words_with_wholes(grammar)
-        self.parts = {(word, place): {} for word in self.words for place in range(len(text) + 1)}
+        self.parts = {(word, place): {} for word in self.words for place in range(len(text))}
         for size in range(1, len(text) + 1):
             for begin in range(len(text) + 1 - size):
                 self.fill(begin, begin + size)

@@ -119,7 +119,7 @@ def acts_of_paper(lines):
         if word == "act":
             acts.append(told)
         else:
-            pile.extend(parts_of(word, lines[told])[::-1])
+            pile.extend(list(parts_of(word, lines[told])[::-1]))
     return acts
 
 

@@ -195,6 +195,17 @@ class CallsTest(unittest.TestCase):
                 self.check_tuples(told)
                 self.assertEqual([value for value in lists.values() if isinstance(value, list)], kept)
 
+    def test_classes_and_their_methods_by_name(self):
+        book = Book(machine=pairs(), text=TEXT)
+        self.assertEqual(book.ask(surface=(0, 0, "")), Book(pairs(), TEXT).ask((0, 0, "")))
+        self.assertEqual(Net(machine=pairs(), text=TEXT).edges, Net(pairs(), TEXT).edges)
+        desk = Desk(machine=pairs(), text=TEXT)
+        with Trial(desk=desk) as same:
+            self.assertEqual(same.splice(place=1, removed=0, letters="a"), 0)
+        self.assertEqual((desk.text, desk.machine, desk.book.text), (TEXT, pairs(), TEXT))
+        self.assertEqual(desk.splice(place=2, removed=1, letters="bb"), 0)
+        self.assertEqual(desk.text, "abbbb")
+
     def test_traces(self):
         for start in ((1, 2, ("a", "a")), [1, 2, ["a", "a"]]):
             told = list(trace(machine=pairs(), text=TEXT, start=start))
@@ -311,6 +322,28 @@ class ErrorsTest(unittest.TestCase):
             with self.assertRaises(errors.RecallError):
                 call()
         self.assertEqual((desk.text, desk.book, desk.splices, desk.book.worked, list(desk.book)), before)
+
+
+class SymbolsTest(unittest.TestCase):
+    """Symbols that are words which mean something elsewhere."""
+
+    def test_symbols_that_are_words(self):
+        for word in ("endless", "falls", "stops", "keep", "push", "say", "yes", "no", "here", "1"):
+            rules = [(0, "<", "", 0, 1, "push", word, ""), (0, "a", word, 1, 1, "push", word, "k"), (1, ">", word, 2, -1, "pop", "", "")]
+            machine = Machine("a", 3, rules, [2])
+            book, net = asked(machine, "a"), Net(machine, "a")
+            self.assertEqual(read_machine(write_machine(machine)), machine)
+            self.assertEqual((book.answer(), answer(machine, "a"), net.answer()), ("yes", "yes", "yes"))
+            self.assertEqual(book.entry((0, 0, "")), (("stops", 2, 1, word), 3, 2, 0, 2, 1))
+            self.assertEqual(book.entry((1, 2, word))[0], ("falls", 2, 1))
+            self.assertIsNone(row_fault(machine, "a", rows(book)))
+            self.assertEqual(standing_at(book, 2), (1, 2, (((word, word), 1),)))
+            self.assertEqual((least_yes(net), run_counts(net), longest_run(net)), (3, (1, 0), 3))
+            self.assertEqual(paper_run(machine, "a", run_paper(net), 3)[-1], (2, 1, (word,)))
+            self.assertEqual(floor_told(machine, "a", floors(net)), 3)
+            stops = Machine("a", 3, rules[:2], [1])
+            self.assertEqual((answer(stops, "a"), Net(stops, "a").answer()), ("yes", "yes"))
+            self.assertIsNone(row_fault(stops, "a", paper(Book(stops, "a"))))
 
 
 class SurfacesTest(unittest.TestCase):

@@ -8,6 +8,7 @@ from pilerecall.nets import Net
 from pilerecall.prices import least_yes
 from pilerecall.rings import find_ring, is_ring
 from pilerecall.runcounts import longest_run, run_counts
+from pilerecall.running import plain_run
 from tests.helpers import cases, long_cases, twice
 
 
@@ -21,6 +22,11 @@ class PlainMachinesTest(unittest.TestCase):
             steps = book.entry((0, 0, ""))[1]
             found[told] += 1
             self.assertEqual(answer(machine, text), told)
+            word, walked, _, _ = plain_run(machine, text, 1000)
+            if told != "endless" and steps <= 1000:
+                self.assertEqual((word, walked, longest_run(net)), ("stops", steps, walked))
+            else:
+                self.assertEqual(word, "goes on")
             self.assertEqual(net.answer() == "yes", told == "yes")
             self.assertEqual(find_ring(net) is None, told != "endless")
             self.assertEqual(find_ring(net) is None, loop(book) is None)
